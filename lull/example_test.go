@@ -32,3 +32,12 @@ func Example() {
 	// [{0 4 [{0 1 97 0} {0 4 99 0}]}]
 	// [{1 6 [{0 1 97 0}]}] 0
 }
+
+func ExampleBatch() {
+	patterns := []string{"a !b c within 5", "a !b within 5"}
+	fmt.Println(lull.Batch(1, patterns, []api.Event{{Time: 4, Kind: 'c'}, {Time: 1, Kind: 'a'}}))
+	fmt.Println(lull.Batch(1, append(patterns, "a within"), nil))
+	// Output:
+	// [[{0 4 [{0 1 97 0} {0 4 99 0}]}] [{1 6 [{0 1 97 0}]}]] 0
+	// [] 2
+}

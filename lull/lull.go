@@ -27,12 +27,17 @@ type Engine struct {
 
 // New makes an Engine (P3).
 func New(sources int) (*Engine, api.Errno) {
-	if sources < 1 || sources > api.MaxSources {
+	if !mayHave(sources) {
 		return nil, api.ErrArg
 	}
 	e := &Engine{marks: make([]int, sources)}
 	e.self = e
 	return e, api.OK
+}
+
+// mayHave tells whether there may be so many sources.
+func mayHave(sources int) bool {
+	return sources >= 1 && sources <= api.MaxSources
 }
 
 func (e *Engine) made() bool {
@@ -198,5 +203,9 @@ func (e *Engine) Drain(n int) []api.Match {
 
 // Batch looks for patterns in events that are all there (P9).
 func Batch(sources int, patterns []string, events []api.Event) ([][]api.Match, api.Errno) {
-	return nil, api.OK
+	parsed, errno := readBatch(sources, patterns, events)
+	if errno != api.OK {
+		return nil, errno
+	}
+	return gather(searchAll(parsed, events)), api.OK
 }

@@ -315,22 +315,19 @@ func wantAsModel(t *testing.T, e *lull.Engine, m *model, number int) {
 	}
 }
 
-// TestP10OrderDoesNotMatter hands the same events in, in another order each time, with other beats and drains between.
+// TestP10OrderDoesNotMatter hands the same events in, in another order each time, with other beats and drains between; and to Batch.
 func TestP10OrderDoesNotMatter(t *testing.T) {
 	for seed := range int64(50) {
 		r := rand.New(rand.NewSource(seed))
-		var patterns []string
-		for range 4 {
-			patterns = append(patterns, randomPattern(r))
-		}
-		var events []api.Event
-		for range 30 {
-			events = append(events, randomEvent(r, 3, r.Intn(20)))
-		}
-		want := tellAll(t, r, patterns, events)
+		patterns, events := randomPatterns(r, 4), randomEvents(r, 3, 30)
+		want := batch(t, 3, patterns, events)
 		for range 10 {
-			if got := tellAll(t, r, patterns, shuffled(r, events)); !slices.Equal(got, want) {
-				t.Fatalf("P10: seed %d, %q: told %q, and in another order %q", seed, patterns, want, got)
+			events = shuffled(r, events)
+			if got := tellAll(t, r, patterns, events); got != want {
+				t.Fatalf("P10: seed %d, %q: Batch tells %s, and in another order an Engine %s", seed, patterns, want, got)
+			}
+			if got := batch(t, 3, patterns, events); got != want {
+				t.Fatalf("P10: seed %d, %q: Batch tells %s, and in another order %s", seed, patterns, want, got)
 			}
 		}
 	}
@@ -354,13 +351,13 @@ func shuffled(r *rand.Rand, events []api.Event) []api.Event {
 }
 
 // tellAll tells all matches, by query. Each source beats up to the least time that is still to come, at random.
-func tellAll(t *testing.T, r *rand.Rand, patterns []string, events []api.Event) []string {
+func tellAll(t *testing.T, r *rand.Rand, patterns []string, events []api.Event) string {
 	t.Helper()
 	e := engineOf(t, 3, patterns...)
-	told := make([]string, len(patterns))
+	told := make([][]api.Match, len(patterns))
 	drain := func(n int) {
 		for _, m := range e.Drain(n) {
-			told[m.Query] += writeMatches([]api.Match{m}) + " "
+			told[m.Query] = append(told[m.Query], m)
 		}
 	}
 	for i, event := range events {
@@ -379,5 +376,30 @@ func tellAll(t *testing.T, r *rand.Rand, patterns []string, events []api.Event) 
 		drain(r.Intn(4))
 	}
 	drain(999)
-	return told
+	return writeLists(told)
+}
+
+// A query is told of what is released behind its Register, whether that was offered ahead of it or behind it, and whichever source's beat came last.
+func TestP10RegisteredWhenTheWatermarkPassed(t *testing.T) {
+	early := readEvents(t, "1a 2b@1 3a@1 4a 4b@1")
+	late := readEvents(t, "5a@1 5b 6b@1 6a=1 6a=2 9c 9b")
+	for ahead := range len(late) + 1 {
+		for last := range 2 {
+			e := engineOf(t, 2, "a b within 9")
+			wantOffer(t, e, len(early), api.OK, early...)
+			wantOffer(t, e, ahead, api.OK, late[:ahead]...)
+			beat(t, e, 1-last, 5)
+			beat(t, e, last, 5)
+			wantRegister(t, e, []int{1, 2}, api.OK, 0, "a b within 9", "a !c within 2")
+			wantOffer(t, e, len(late)-ahead, api.OK, late[ahead:]...)
+			beat(t, e, last, 99)
+			beat(t, e, 1-last, 99)
+			wantWaiting(t, e, 0, 6)
+			wantWaiting(t, e, 1, 3)
+			wantWaiting(t, e, 2, 3)
+			wantDrain(t, e, 2, "0:1a,2b@1/2 0:3a@1,4b@1/4")
+			wantRemove(t, e, 0, api.OK)
+			wantDrain(t, e, 9, "1:5a@1,6b@1/6 1:6a=1,6b@1/6 2:5a@1/7 2:6a=1/8 1:6a=2,6b@1/6 2:6a=2/8")
+		}
+	}
 }
